@@ -1,0 +1,78 @@
+"""Worlds that several tests use, as texts and as tuples."""
+
+from worldtale.world import World
+
+NAMES = ("places", "things", "ways", "states", "rules", "everies", "scenes", "ends")
+
+HOUSE_ROWS = (
+    "place hall",
+    "place cellar dark",
+    "thing lamp lamp red : at hall lit",
+    "thing chest box big old : at hall box clear shut",
+    "thing table table : at cellar fixed stand",
+    "thing cap cap : with you wear",
+    "thing coin coin small : in chest",
+    "thing cup cup : on table",
+    "thing ghost ghost : nowhere",
+    "thing gate door iron : nowhere door shut",
+    "way hall down cellar by gate",
+    "way cellar up hall by gate",
+    "way hall east hut",
+    "state mood 3",
+    "state luck 0",
+    "rule before take lamp : not mood is 3 : say it is hot and stop",
+    "rule instead wait any : always : say you wait",
+    "rule after go cellar : lamp with you and not you at hall : set mood 4 and move ghost at cellar",
+    "every 4 : gate open and cap worn : move coin with you and move coin nowhere",
+    "scene fog : always : lamp nowhere",
+    "end rich : coin on table and coin in chest and coin at hall",
+)
+
+HOUSE_LISTS = (
+    [("hall", False), ("hut", False), ("cellar", True)],
+    [
+        ("lamp", "lamp", ("red",), ("at", "hall"), ("lit",)),
+        ("chest", "box", ("big", "old"), ("at", "hall"), ("box", "clear", "shut")),
+        ("table", "table", (), ("at", "cellar"), ("fixed", "stand")),
+        ("cap", "cap", (), ("with",), ("wear",)),
+        ("coin", "coin", ("small",), ("in", "chest"), ()),
+        ("cup", "cup", (), ("on", "table"), ()),
+        ("ghost", "ghost", (), ("nowhere",), ()),
+        ("gate", "door", ("iron",), ("nowhere",), ("door", "shut")),
+    ],
+    [("hall", "down", "cellar", "gate"), ("cellar", "up", "hall", "gate"), ("hall", "east", "hut", "")],
+    [("mood", 3), ("luck", 0)],
+    [
+        ("before", "take", "lamp", ((True, "is", "mood", 3),), (("say", "it is hot"), ("stop",))),
+        ("instead", "wait", "", (), (("say", "you wait"),)),
+        (
+            "after", "go", "cellar",
+            ((False, "with", "lamp", ""), (True, "you", "hall", "")),
+            (("set", "mood", 4), ("move", "ghost", ("at", "cellar"))),
+        ),
+    ],
+    [
+        (
+            4,
+            ((False, "open", "gate", ""), (False, "worn", "cap", "")),
+            (("move", "coin", ("with",)), ("move", "coin", ("nowhere",))),
+        ),
+    ],
+    [("fog", (), ((False, "nowhere", "lamp", ""),))],
+    [("rich", ((False, "on", "coin", "table"), (False, "in", "coin", "chest"), (False, "at", "coin", "hall")))],
+)
+
+HOUSE_TEXT = "\n".join([HOUSE_ROWS[0], "place hut", *HOUSE_ROWS[1:]])
+
+
+def house():
+    """A new World of the house."""
+    return World(*[list(rows) for rows in HOUSE_LISTS])
+
+
+def world_of(**lists):
+    """A World of the lists told by name, the others empty, but for one place."""
+    told = {name: [] for name in NAMES}
+    told["places"] = [("hall", False)]
+    told.update(lists)
+    return World(*[told[name] for name in NAMES])

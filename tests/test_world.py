@@ -1,0 +1,73 @@
+"""Points 0 and 4: a World keeps nothing that is handed in, and what it tells is the asker's own."""
+
+import inspect
+import unittest
+
+from tests.samples import HOUSE_LISTS, NAMES, house
+from worldtale import world as world_file
+from worldtale.world import World
+
+
+class TestWorld(unittest.TestCase):
+    def test_tells_the_eight_lists(self):
+        told = house().told()
+        self.assertIs(type(told), tuple)
+        self.assertEqual(told, HOUSE_LISTS)
+        for rows in told:
+            self.assertIs(type(rows), list)
+            for row in rows:
+                self.assertIs(type(row), tuple)
+
+    def test_empty_lists(self):
+        self.assertEqual(World([], [], [], [], [], [], [], []).told(), ([], [], [], [], [], [], [], []))
+
+    def test_each_list_in_its_place(self):
+        for at in range(8):
+            lists = [[] for _ in range(8)]
+            lists[at] = [("a", at)]
+            self.assertEqual(World(*lists).told(), tuple(lists))
+
+    def test_arguments_by_name(self):
+        told = World(**dict(zip(NAMES, HOUSE_LISTS))).told()
+        self.assertEqual(told, HOUSE_LISTS)
+        self.assertEqual(list(inspect.signature(World).parameters), list(NAMES))
+
+    def test_lists_handed_in_may_be_changed_afterwards(self):
+        lists = [list(rows) for rows in HOUSE_LISTS]
+        made = World(*lists)
+        for rows in lists:
+            rows.reverse()
+            rows.append(("new",))
+            rows[0] = ("other",)
+        self.assertEqual(made.told(), HOUSE_LISTS)
+        for rows in lists:
+            rows.clear()
+        self.assertEqual(made.told(), HOUSE_LISTS)
+
+    def test_lists_handed_in_are_not_changed(self):
+        lists = [list(rows) for rows in HOUSE_LISTS]
+        World(*lists).told()
+        self.assertEqual(tuple(lists), HOUSE_LISTS)
+
+    def test_lists_told_may_be_changed(self):
+        made = house()
+        for rows in made.told():
+            rows.append(("new",))
+            rows[0] = ("other",)
+        self.assertEqual(made.told(), HOUSE_LISTS)
+        for rows in made.told():
+            rows.clear()
+        self.assertEqual(made.told(), HOUSE_LISTS)
+
+    def test_two_worlds_share_nothing(self):
+        one, two = house(), house()
+        one.told()[0].clear()
+        self.assertEqual(two.told(), one.told())
+
+    def test_it_is_defined_in_its_file(self):
+        self.assertEqual(World.__module__, world_file.__name__)
+        self.assertIn("told", vars(World))
+
+
+if __name__ == "__main__":
+    unittest.main()

@@ -1,0 +1,1 @@
+"""Worldtale: a house of told worlds."""
