@@ -65,6 +65,16 @@ HOUSE_LISTS = (
 HOUSE_TEXT = "\n".join([HOUSE_ROWS[0], "place hut", *HOUSE_ROWS[1:]])
 
 
+class Alike:
+    """What says of itself that it is alike to anything."""
+
+    def __eq__(self, other):
+        return True
+
+    def __hash__(self):
+        return hash("lamp")
+
+
 def house():
     """A new World of the house."""
     return World(*[list(rows) for rows in HOUSE_LISTS])

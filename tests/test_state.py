@@ -2,19 +2,19 @@
 
 import unittest
 
-from tests.samples import HOUSE_LISTS, house, world_of
+from tests.samples import HOUSE_LISTS, Alike, house, world_of
 from worldtale.errors import BadState, OutOfPlace
 from worldtale.state import State
 
 NOTHING_THERE = ("loft", "", "Lamp", "lamp ", None, True, False, 0, 1, [], ["lamp"], (), ("lamp",), {}, set(), b"lamp",
-                 object())
-NO_TRUTHS = (0, 1, None, "", "True", "yes", [], (), {}, set(), object())
+                 object(), Alike())
+NO_TRUTHS = (0, 1, None, "", "True", "yes", [], (), {}, set(), object(), Alike())
 NO_WHERES = (None, True, False, 0, 1, "", "hall", "with", "nowhere", "at hall", [], {}, set(), object(), (), ("at",),
              ("in",), ("on",), ("hall",), ("with", "you"), ("with", ""), ("nowhere", ""), ("nowhere", "hall"),
              ("at", "hall", "hall"), ["at", "hall"], ["with"], ["nowhere"], ("under", "table"), ("is", "hall"),
              ("", "hall"), ("with",) * 3, (None,), ([],), (None, "hall"), ([], "hall"), ({}, "chest"), (True, "hall"),
              ("at", None), ("at", []), ("in", []), ("on", {}), ("at", ("hall",)), ("in", True), ("on", 1),
-             ("WITH",), (("with",),))
+             ("WITH",), (("with",),), Alike(), (Alike(),), (Alike(), "hall"), ("at", Alike()))
 
 BEGINNING = (
     "hall",
@@ -316,7 +316,7 @@ class TestSetNumber(Refusing):
 
     def test_what_is_no_whole_number_from_0_to_9(self):
         state = State(house())
-        for number in (-1, 10, 11, 100, 10**30, True, False, None, "", "3", [], [3], (3,), {}, set(), b"3", object()):
+        for number in (-1, 10, 11, 100, 10**30, True, False, None, "", "3", [], [3], (3,), {}, set(), b"3", object(), Alike()):
             self.refused(BadState, state, "set_number", "mood", number)
 
 

@@ -2,6 +2,7 @@
 
 import unittest
 
+from tests.samples import Alike
 from worldtale.words import digit_of, is_among, is_name, is_reserved, is_whole, is_word, words_of
 
 RESERVED = (
@@ -11,7 +12,8 @@ RESERVED = (
     "always any say set move stop"
 ).split()
 
-NO_TEXTS = (None, True, False, 0, 1, -3, [], ["a"], (), ("a",), {}, {"a": 1}, set(), b"a", object(), len, str)
+NO_TEXTS = (None, True, False, 0, 1, -3, [], ["a"], (), ("a",), {}, {"a": 1}, set(), b"a", object(), len, str,
+            Alike())
 
 
 class TestWhole(unittest.TestCase):
@@ -125,6 +127,11 @@ class TestDigit(unittest.TestCase):
             told = digit_of(str(number))
             self.assertEqual(told, number)
             self.assertIs(type(told), int)
+
+    def test_other_signs(self):
+        for number in range(128):
+            if chr(number) not in "0123456789":
+                self.assertIsNone(digit_of(chr(number)))
 
     def test_no_figures(self):
         for text in ("", "10", "00", "01", "-1", "+1", " 1", "1 ", "a", "1\n", "o", ".", "/", ":", "one"):

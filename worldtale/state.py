@@ -111,20 +111,22 @@ class State:
         return self._world
 
     def _need(self, name, names):
-        if not is_there(name, names):
+        # Anything may be asked for: what is no text may not even be looked up in a dict.
+        if not isinstance(name, str) or name not in names:
             raise OutOfPlace("no such name")
 
     def _is_where(self, where):
         """Whether a thing may be there at all: at a place, or held by what can hold."""
+        if not isinstance(where, tuple) or not all([isinstance(word, str) for word in where]):
+            return False
         if where == WITH_YOU or where == NOWHERE:
             return True
-        if not isinstance(where, tuple) or len(where) != 2:
+        if len(where) != 2:
             return False
         link, name = where
         if link == "at":
-            return is_there(name, self._places)
-        # Asked of a tuple first: what is no text may not be looked up in a dict.
-        if link not in ("in", "on") or not is_there(name, self._traits):
+            return name in self._places
+        if link not in HOLDER_TRAITS or name not in self._traits:
             return False
         return HOLDER_TRAITS[link] in self._traits[name]
 
@@ -133,8 +135,3 @@ class State:
         while where[0] in HOLDER_TRAITS and where[1] != thing:
             where = self._wheres[where[1]]
         return where[0] in HOLDER_TRAITS
-
-
-def is_there(name, names):
-    """Whether a name, or anything else, is among names."""
-    return isinstance(name, str) and name in names
