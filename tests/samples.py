@@ -75,6 +75,11 @@ class Alike:
         return hash("lamp")
 
 
+# What is none of the names in any world of the tests.
+NOTHING_THERE = ("loft", "", "Lamp", "lamp ", None, True, False, 0, 1, [], ["lamp"], (), ("lamp",), {}, set(), b"lamp",
+                 object(), Alike())
+
+
 def house():
     """A new World of the house."""
     return World(*[list(rows) for rows in HOUSE_LISTS])

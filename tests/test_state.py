@@ -2,12 +2,10 @@
 
 import unittest
 
-from tests.samples import HOUSE_LISTS, Alike, house, world_of
+from tests.samples import HOUSE_LISTS, NOTHING_THERE, Alike, house, world_of
 from worldtale.errors import BadState, OutOfPlace
 from worldtale.state import State
 
-NOTHING_THERE = ("loft", "", "Lamp", "lamp ", None, True, False, 0, 1, [], ["lamp"], (), ("lamp",), {}, set(), b"lamp",
-                 object(), Alike())
 NO_TRUTHS = (0, 1, None, "", "True", "yes", [], (), {}, set(), object(), Alike())
 NO_WHERES = (None, True, False, 0, 1, "", "hall", "with", "nowhere", "at hall", [], {}, set(), object(), (), ("at",),
              ("in",), ("on",), ("hall",), ("with", "you"), ("with", ""), ("nowhere", ""), ("nowhere", "hall"),

@@ -3,8 +3,9 @@
 import inspect
 import unittest
 
-from tests.samples import HOUSE_LISTS, NAMES, house
+from tests.samples import HOUSE_LISTS, NAMES, NOTHING_THERE, house
 from worldtale import world as world_file
+from worldtale.errors import OutOfPlace
 from worldtale.world import World
 
 
@@ -67,6 +68,31 @@ class TestWorld(unittest.TestCase):
     def test_it_is_defined_in_its_file(self):
         self.assertEqual(World.__module__, world_file.__name__)
         self.assertIn("told", vars(World))
+
+
+class TestLookingUp(unittest.TestCase):
+    def test_names(self):
+        made = house()
+        self.assertEqual(made.place_names(), [row[0] for row in HOUSE_LISTS[0]])
+        self.assertEqual(made.thing_names(), [row[0] for row in HOUSE_LISTS[1]])
+        made.place_names().clear()
+        made.thing_names().clear()
+        self.assertEqual(made.told(), HOUSE_LISTS)
+
+    def test_things(self):
+        made = house()
+        for thing, noun, adjectives, _, traits in HOUSE_LISTS[1]:
+            self.assertEqual((made.noun_of(thing), made.adjectives_of(thing)), (noun, adjectives))
+            for trait in ("box", "clear", "door", "fixed", "lit", "shut", "stand", "wear"):
+                self.assertIs(made.has_trait(thing, trait), trait in traits)
+            self.assertIs(made.has_lid(thing), thing in ("chest", "gate"))
+
+    def test_what_is_not_there(self):
+        made = house()
+        for name in (*NOTHING_THERE, "hall", "mood"):
+            for deed in (made.noun_of, made.adjectives_of, made.has_lid):
+                self.assertRaises(OutOfPlace, deed, name)
+            self.assertRaises(OutOfPlace, made.has_trait, name, "box")
 
 
 if __name__ == "__main__":

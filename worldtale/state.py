@@ -1,8 +1,8 @@
 """The state of a world: where you and its things are, and how they stand."""
 
-from worldtale.errors import BadState, OutOfPlace
+from worldtale.errors import BadState
 from worldtale.words import is_among
-from worldtale.world import HOLDER_TRAITS
+from worldtale.world import HOLDER_TRAITS, need_name
 
 WITH_YOU = ("with",)
 NOWHERE = ("nowhere",)
@@ -13,14 +13,13 @@ class State:
     """What is so in a world at a moment, and the deeds that change it."""
 
     def __init__(self, world):
-        places, things, _, states = world.told()[:4]
+        things, _, states = world.told()[1:4]
+        lids = [thing for thing in world.thing_names() if world.has_lid(thing)]
         self._world = world
-        self._places = [row[0] for row in places]
-        self._traits = {row[0]: row[4] for row in things}
-        self._here = places[0][0]
+        self._here = world.place_names()[0]
         self._turns = 0
         self._wheres = {row[0]: row[3] for row in things}
-        self._opens = {row[0]: "shut" not in row[4] for row in things if "box" in row[4] or "door" in row[4]}
+        self._opens = {thing: not world.has_trait(thing, "shut") for thing in lids}
         self._worns = {row[0]: False for row in things}
         self._numbers = {name: number for name, number in states}
 
@@ -34,27 +33,27 @@ class State:
 
     def where(self, thing):
         """Where a thing is, as a world has it."""
-        self._need(thing, self._wheres)
+        need_name(thing, self._wheres)
         return self._wheres[thing]
 
     def is_open(self, thing):
         """Whether a box or a door is open; nothing else is."""
-        self._need(thing, self._wheres)
+        need_name(thing, self._wheres)
         return self._opens.get(thing, False)
 
     def is_worn(self, thing):
-        self._need(thing, self._wheres)
+        need_name(thing, self._wheres)
         return self._worns[thing]
 
     def number_of(self, name):
         """The number of a state."""
-        self._need(name, self._numbers)
+        need_name(name, self._numbers)
         return self._numbers[name]
 
     def move_thing(self, thing, where):
         """Puts a thing there; moved anywhere but with you it is worn no more."""
-        self._need(thing, self._wheres)
-        if "door" in self._traits[thing]:
+        need_name(thing, self._wheres)
+        if self._world.has_trait(thing, "door"):
             raise BadState("a door stays where it is")
         if not self._is_where(where) or self._would_ring(thing, where):
             raise BadState("the thing can't be there")
@@ -63,26 +62,27 @@ class State:
             self._worns[thing] = False
 
     def set_open(self, thing, truth):
-        self._need(thing, self._wheres)
+        need_name(thing, self._wheres)
         if thing not in self._opens or not isinstance(truth, bool):
             raise BadState("this can't be open or shut")
         self._opens[thing] = truth
 
     def set_worn(self, thing, truth):
-        self._need(thing, self._wheres)
-        if "wear" not in self._traits[thing] or self._wheres[thing] != WITH_YOU or not isinstance(truth, bool):
+        need_name(thing, self._wheres)
+        can_be_worn = self._world.has_trait(thing, "wear") and self._wheres[thing] == WITH_YOU
+        if not can_be_worn or not isinstance(truth, bool):
             raise BadState("this can't be worn or not")
         self._worns[thing] = truth
 
     def set_number(self, name, number):
-        self._need(name, self._numbers)
+        need_name(name, self._numbers)
         if not is_among(number, 0, MOST_NUMBER):
             raise BadState("a state's number is a whole one from 0 to 9")
         self._numbers[name] = number
 
     def go_to(self, place):
         """Puts you at a place."""
-        self._need(place, self._places)
+        need_name(place, self._world.place_names())
         self._here = place
 
     def next_turn(self):
@@ -110,11 +110,6 @@ class State:
         """The World that this is a state of."""
         return self._world
 
-    def _need(self, name, names):
-        # Anything may be asked for: what is no text may not even be looked up in a dict.
-        if not isinstance(name, str) or name not in names:
-            raise OutOfPlace("no such name")
-
     def _is_where(self, where):
         """Whether a thing may be there at all: at a place, or held by what can hold."""
         if not isinstance(where, tuple) or not all([isinstance(word, str) for word in where]):
@@ -125,10 +120,10 @@ class State:
             return False
         link, name = where
         if link == "at":
-            return name in self._places
-        if link not in HOLDER_TRAITS or name not in self._traits:
+            return name in self._world.place_names()
+        if link not in HOLDER_TRAITS or name not in self._wheres:
             return False
-        return HOLDER_TRAITS[link] in self._traits[name]
+        return self._world.has_trait(name, HOLDER_TRAITS[link])
 
     def _would_ring(self, thing, where):
         """Whether a thing that is put there, where it may be, would hold itself."""
