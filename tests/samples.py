@@ -1,6 +1,7 @@
 """Worlds that several tests use, as texts and as tuples."""
 
 from worldtale.world import World
+from worldtale.worldread import read_world
 
 NAMES = ("places", "things", "ways", "states", "rules", "everies", "scenes", "ends")
 
@@ -64,6 +65,26 @@ HOUSE_LISTS = (
 
 HOUSE_TEXT = "\n".join([HOUSE_ROWS[0], "place hut", *HOUSE_ROWS[1:]])
 
+# Things that share nouns and adjectives; "red" is a noun, too.
+SHOP_TEXT = "\n".join((
+    "place hall",
+    "place hut dark",
+    "thing one lamp old red : at hall",
+    "thing two lamp green old : with you",
+    "thing three lamp red small : at hall",
+    "thing chest box old : at hall box",
+    "thing bag box red : with you box shut",
+    "thing tray tray red : at hall stand",
+    "thing shelf tray : at hall fixed stand",
+    "thing cap cap red : with you wear",
+    "thing hat cap : with you wear",
+    "thing rose red : in chest",
+    "thing pin pin : nowhere",
+    "thing gate door red : nowhere door shut",
+    "way hall up hut by gate",
+    "way hut down hall by gate",
+))
+
 
 class Alike:
     """What says of itself that it is alike to anything."""
@@ -83,6 +104,11 @@ NOTHING_THERE = ("loft", "", "Lamp", "lamp ", None, True, False, 0, 1, [], ["lam
 def house():
     """A new World of the house."""
     return World(*[list(rows) for rows in HOUSE_LISTS])
+
+
+def shop():
+    """A new World of the shop."""
+    return read_world(SHOP_TEXT)
 
 
 def world_of(**lists):
