@@ -248,15 +248,20 @@ class TestNoLines(unittest.TestCase):
 
     def test_words_not_of_one_to_eight_small_letters(self):
         for word in ("Lamp", "LAMP", "lamp1", "7", "lamp,", "lamp.", "mansionss", "lamp\n", "\n", "re-d", ":", "lamp:look"):
-            self.refused(f"take {word}", 2)
-            self.refused(f"take red {word}", 3)
-            self.refused(word, 1)
-            self.refused(f"look {word}", 2)
-            self.refused(f"put lamp in {word}", 4)
-        self.refused("Look", 1)
-        self.refused("take lamp\nlook", 2)
-        self.refused("GO up", 1)
-        self.refused("go Up", 2)
+            for line in (f"take {word}", f"take red {word}", word, f"look {word}", f"put lamp in {word}", f"{word} lamp",
+                         f"look then {word} then up", f"take take {word}"):
+                self.refused(line, 0)
+        for line in ("Look", "loOk", "look,", "take lamp\nlook", "GO up", "go Up", "take abcdefghi", "abcdefghi"):
+            self.refused(line, 0)
+
+    def test_what_is_no_word_counts_wherever_it_stands(self):
+        self.refused("drop all but the big quill abcdefgh cup and lantern abcdefgh cup key 7", 0)
+        self.refused("drop all but the big quill abcdefgh cup and lantern abcdefgh cup key cup", 14)
+        self.refused("lamp lamp lamp 7", 0)
+        self.refused("lamp lamp lamp lamp", 1)
+        self.refused(" then ".join(["up"] * 8) + " then 7", 0)
+        self.refused(" ".join(["up"] * 39) + " 7", 0)
+        self.assertEqual(told("take abcdefgh"), [("take", ("some", (("abcdefgh",),)), "", None)])
 
     def test_all_short_rows_of_words(self):
         vocabulary = ("look", "go", "up", "take", "put", "the", "it", "all", "but", "and", "then", "in", "lamp")

@@ -2,7 +2,7 @@
 
 from worldtale.cursor import Cursor
 from worldtale.errors import BadCommand, BadRow
-from worldtale.words import COMMANDS, DIRECTIONS, is_name, words_of
+from worldtale.words import COMMANDS, DIRECTIONS, is_name, is_word, words_of
 
 MOST_WORDS = 40
 MOST_CLAUSES = 8
@@ -28,7 +28,7 @@ class Clause:
 def clauses_of(line):
     """The clauses of a line; BadCommand of anything that is none."""
     words = words_of(line)
-    if words is None or len(words) > MOST_WORDS:
+    if words is None or len(words) > MOST_WORDS or not all([is_word(word) for word in words]):
         raise BadCommand(0)
     try:
         return read_clauses(Cursor(1, words))
