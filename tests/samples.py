@@ -1,5 +1,6 @@
 """Worlds that several tests use, as texts and as tuples."""
 
+from worldtale.looking import look_through
 from worldtale.world import World
 from worldtale.worldread import read_world
 
@@ -117,3 +118,52 @@ def world_of(**lists):
     told["places"] = [("hall", False)]
     told.update(lists)
     return World(*[told[name] for name in NAMES])
+
+
+# A world with something of each sort, to be played.
+MANOR_TEXT = "\n".join((
+    "place hall",
+    "place cellar dark",
+    "place garden",
+    "thing lamp lamp red : at hall lit",
+    "thing torch lamp green : in chest lit",
+    "thing chest box old : at hall box shut",
+    "thing case box glass : at hall box clear shut",
+    "thing coin coin small : in case",
+    "thing table table oak : at garden fixed stand",
+    "thing cup cup : on table",
+    "thing cap cap : with you wear",
+    "thing bag bag : with you box wear",
+    "thing statue statue old iron : at garden fixed",
+    "thing gate gate iron : nowhere door shut",
+    "thing ghost ghost : nowhere",
+    "way hall down cellar",
+    "way cellar up hall",
+    "way hall east garden by gate",
+    "way garden west hall by gate",
+    "state luck 0",
+    "state mood 5",
+    "rule before take coin : luck is 0 : say the coin glitters and set luck 1",
+    "rule before drop cup : always : say better not and stop",
+    "rule instead wait any : you at garden and not ghost nowhere : say the ghost sighs and move ghost nowhere",
+    "rule after take cup : always : say how cold and set mood 4",
+    "rule after go cellar : not lamp with you : say brr",
+    "every 3 : you at garden : move ghost at garden and say a cold wind",
+    "every 2 : luck is 1 : set luck 2",
+    "scene dusk : you at garden : you at cellar",
+    "scene haunted : ghost at garden : ghost nowhere",
+    "end rich : coin with you and luck is 2",
+    "end lost : lamp in bag and bag at cellar",
+))
+
+
+def manor():
+    """A new World of the manor."""
+    return read_world(MANOR_TEXT)
+
+
+def looked(*rows):
+    """A World of rows that the looker lets by."""
+    made = read_world("\n".join(rows))
+    look_through(made)
+    return made

@@ -56,8 +56,13 @@ class TestLanguage(unittest.TestCase):
             self.assertLessEqual(len(lines) - 1, 399, name)
             for line in lines:
                 self.assertRegex(line, r"^[ -~]{0,120}$", name)
-            self.assertNotIn("%", text, name)
             self.assertIsNone(BARRED_WORDS.search(text), name)
+
+    def test_strings(self):
+        for name, tree in trees():
+            texts = [node.value for node in ast.walk(tree) if isinstance(node, ast.Constant)]
+            for text in texts:
+                self.assertFalse(isinstance(text, str) and "%" in text, (name, text))
 
     def test_functions(self):
         for name, tree in trees():

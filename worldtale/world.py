@@ -18,6 +18,14 @@ class World:
         """The eight lists of rows, as the asker's own."""
         return tuple([list(rows) for rows in self._lists])
 
+    def rows_of(self, sort):
+        """The rows of one sort, as a tuple."""
+        return self._lists[SORTS.index(sort)]
+
+    def ways_out(self, place):
+        """The ways that lead out of a place."""
+        return [way for way in self.rows_of("way") if way[0] == place]
+
     def place_names(self):
         return [row[0] for row in self._lists[0]]
 
