@@ -14,11 +14,15 @@ class Cursor:
 
     def refuse(self):
         """The next word can't stand here, or lacks."""
-        raise BadRow(self._row, self._at + 1)
+        self.refuse_at(self._at + 1)
+
+    def refuse_at(self, word):
+        """This word can't stand, though it is read already."""
+        raise BadRow(self._row, word)
 
     def refuse_row(self):
         """The row can't stand here, whatever its words are."""
-        raise BadRow(self._row, 0)
+        self.refuse_at(0)
 
     def peek(self):
         """The next word, or the empty text behind the last one, as no word is empty."""

@@ -35,11 +35,9 @@ DONE_LINES = {
 
 
 def about_of(world, state, deed):
-    """What a deed is about: a thing, of go a place, or nothing."""
+    """What a deed is about: its thing, which of wait is none, or of go a place."""
     verb, what, _, _ = deed
-    if verb == "go":
-        return goal_of(world, state, what)
-    return "" if verb == "wait" else what
+    return goal_of(world, state, what) if verb == "go" else what
 
 
 def goal_of(world, state, direction):

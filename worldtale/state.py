@@ -106,6 +106,14 @@ class State:
         other._numbers = dict(self._numbers)
         return other
 
+    def set_as_told(self, told):
+        """Stands as another state of this world told; whether this can be isn't looked at."""
+        self._here, self._turns, wheres, opens, worns, numbers = told
+        self._wheres = dict(zip(self._wheres, wheres))
+        self._opens = {thing: thing in opens for thing in self._opens}
+        self._worns = {thing: thing in worns for thing in self._worns}
+        self._numbers = dict(zip(self._numbers, numbers))
+
     def told_world(self):
         """The World that this is a state of."""
         return self._world
