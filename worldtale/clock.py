@@ -36,8 +36,9 @@ def change_scenes(world, state, running):
     begun = [name for name, begins, _ in scenes if name not in running and holds_all(world, state, begins)]
     stayed = [name for name in running if name not in ended]
     running_then = [name for name, _, _ in scenes if name in stayed or name in begun]
+    lines = [f"{name} ends." for name in ended]
+    lines.extend([f"{name} begins." for name in begun])
     end = first_end(world, state)
-    lines = [*[f"{name} ends." for name in ended], *[f"{name} begins." for name in begun]]
     if end != "":
         lines.append(f"{end}.")
     return (lines, running_then, end)
